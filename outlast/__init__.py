@@ -1,0 +1,1 @@
+"""Outlast: programs that outlast their machine."""
