@@ -24,14 +24,14 @@ def read_rows(text, forms):
     rows = []
     for number, line in enumerate(text.split("\n")[:-1]):
         words = line.split(" ")
-        if not is_row(words, forms):
+        kinds = forms.get(words[0])
+        if not is_row(words, kinds):
             raise NoLog(number)
-        rows.append(row_of(words, forms[words[0]]))
+        rows.append(row_of(words, kinds))
     return rows
 
 
-def is_row(words, forms):
-    kinds = forms.get(words[0])
+def is_row(words, kinds):
     if kinds is None or len(words) != len(kinds) + 1:
         return False
     return all([is_word_of(kind, word) for kind, word in zip(kinds, words[1:])])

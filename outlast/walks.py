@@ -35,3 +35,9 @@ class Walk:
 
     def place(self):
         return tuple(self.numbers)
+
+    def go_to(self, place):
+        for which in place[1::2]:
+            self.numbers[-1] = place[len(self.numbers) - 1]
+            self.enter(which)
+        self.numbers[-1] = place[-1]
