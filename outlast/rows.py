@@ -44,6 +44,9 @@ def is_word_of(kind, word):
         return is_number_word(word, 0, GREATEST_MOMENT)
     if kind == "ticket":
         return is_number_word(word, 0, GREATEST_TICKET)
+    if kind == "number":
+        # At most forty figures, below 0 too.
+        return is_number_word(word, 1 - 10 ** 40, 10 ** 40 - 1)
     return word == "-" or is_number_word(word, -GREATEST_WORTH, GREATEST_WORTH)
 
 

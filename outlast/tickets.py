@@ -31,7 +31,8 @@ class Tickets:
         self.pending.clear()
 
     def first_done(self, worths):
-        for ticket in self.answers:
-            if ticket in worths:
-                return ticket
-        return None
+        tickets = [worth for worth in worths if worth in self.answers]
+        # A run may have very many done, so they are gone through only where the order counts.
+        if len(set(tickets)) < 2:
+            return tickets[0] if tickets else None
+        return [ticket for ticket in self.answers if ticket in tickets][0]
